@@ -166,6 +166,7 @@ func samePlace(a, b Member) bool {
 // typeNode is a part of the tree of a valid type. It may share slices with
 // the Type that it was made from, and is never changed.
 type typeNode interface {
+	kind() int64
 	size() int64
 	depth() int64
 }
@@ -203,6 +204,13 @@ type arrayNode struct {
 }
 
 type refNode struct{}
+
+func (n intNode) kind() int64      { return TyInt }
+func (n textNode) kind() int64     { return TyText }
+func (n enumNode) kind() int64     { return TyEnum }
+func (n compoundNode) kind() int64 { return TyCompound }
+func (n arrayNode) kind() int64    { return TyArray }
+func (n refNode) kind() int64      { return TyRef }
 
 func (n intNode) size() int64      { return n.bytes }
 func (n textNode) size() int64     { return n.bytes }
