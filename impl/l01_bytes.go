@@ -51,7 +51,7 @@ var codeNames = [...]string{
 	ErrPower:    "power",
 }
 
-// The first call of Crc32 fills the table; no call changes it after that.
+// The first call of Crc32ByTable fills the table; no call changes it after that.
 var (
 	crcFilled     sync.Once
 	crcRemainders [256]uint32
@@ -122,12 +122,13 @@ func PadBytes(s string, n int64) (string, bool) {
 
 // Crc32 returns the CRC-32 of a string.
 func Crc32(s string) int64 {
+	return crcOf(s, crcRemainder)
+}
+
+// Crc32ByTable returns what Crc32 returns, but takes the remainders from a table.
+func Crc32ByTable(s string) int64 {
 	crcFilled.Do(fillCrcRemainders)
-	crc := uint32(math.MaxUint32)
-	for i := range len(s) {
-		crc = crcRemainders[byte(crc)^s[i]] ^ crc>>8
-	}
-	return int64(^crc)
+	return crcOf(s, func(b byte) uint32 { return crcRemainders[b] })
 }
 
 // HexText returns the bytes of a string as hexadecimal digits.
@@ -198,16 +199,26 @@ func readLittleEndian(s string, at, size int64) (uint64, bool) {
 	return n, true
 }
 
+func crcOf(s string, remainder func(b byte) uint32) int64 {
+	crc := uint32(math.MaxUint32)
+	for i := range len(s) {
+		crc = remainder(byte(crc)^s[i]) ^ crc>>8
+	}
+	return int64(^crc)
+}
+
+func crcRemainder(b byte) uint32 {
+	crc := uint32(b)
+	for range 8 {
+		// All bits of the mask are those of the one that is shifted out.
+		mask := -(crc & 1)
+		crc = crc>>1 ^ crcPolynomial&mask
+	}
+	return crc
+}
+
 func fillCrcRemainders() {
 	for i := range crcRemainders {
-		crc := uint32(i)
-		for range 8 {
-			odd := crc&1 == 1
-			crc >>= 1
-			if odd {
-				crc ^= crcPolynomial
-			}
-		}
-		crcRemainders[i] = crc
+		crcRemainders[i] = crcRemainder(byte(i))
 	}
 }

@@ -183,14 +183,38 @@ func TestP2PadBytes(t *testing.T) {
 	}
 }
 
+// checkCrc32 checks both ways to the result, with the table and without it.
+func checkCrc32(t *testing.T, what, s string) {
+	t.Helper()
+	want := int64(crc32.ChecksumIEEE([]byte(s)))
+	check(t, what, impl.Crc32(s), want)
+	check(t, what+" by the table", impl.Crc32ByTable(s), want)
+}
+
 func TestP2Crc32(t *testing.T) {
 	check(t, "example", impl.Crc32("123456789"), int64(3421780262))
 	check(t, "empty", impl.Crc32(""), int64(0))
+	check(t, "example by the table", impl.Crc32ByTable("123456789"), int64(3421780262))
+	check(t, "empty by the table", impl.Crc32ByTable(""), int64(0))
 	s := ""
 	for b := range 600 {
-		check(t, "one byte", impl.Crc32(string([]byte{byte(b)})), int64(crc32.ChecksumIEEE([]byte{byte(b)})))
+		checkCrc32(t, "one byte", string([]byte{byte(b)}))
 		s += string([]byte{byte(b * b)})
-		check(t, "many bytes", impl.Crc32(s), int64(crc32.ChecksumIEEE([]byte(s))))
+		checkCrc32(t, "many bytes", s)
+	}
+	checkCrc32(t, "zeros", strings.Repeat("\x00", 65536))
+	checkCrc32(t, "ones", strings.Repeat("\xff", 65537))
+	checkCrc32(t, "runes", strings.Repeat("a\xc3\xa9\u2028\xff", 5000))
+}
+
+func TestP2Crc32OfEveryPair(t *testing.T) {
+	for high := range 256 {
+		for low := range 256 {
+			s := string([]byte{byte(high), byte(low)})
+			if got, want := impl.Crc32(s), impl.Crc32ByTable(s); got != want {
+				t.Fatalf("Crc32 of %q: got %d, by the table %d", s, got, want)
+			}
+		}
 	}
 }
 
@@ -257,7 +281,7 @@ func bytesResults(s string, n, at, size int64) []any {
 	padded, isPadded := impl.PadBytes(s, n)
 	read, isRead := impl.ReadHex(s)
 	return []any{impl.CodeName(n), impl.PutUint(n, size), u, isU, impl.PutInt(n, size), i, isI, impl.ReverseBytes(s),
-		padded, isPadded, impl.Crc32(s), impl.HexText(s), read, isRead, impl.IsName(s)}
+		padded, isPadded, impl.Crc32(s), impl.Crc32ByTable(s), impl.HexText(s), read, isRead, impl.IsName(s)}
 }
 
 func TestP1BytesReturnForAllArguments(t *testing.T) {
@@ -278,9 +302,13 @@ func TestP1BytesAtTheSameTime(t *testing.T) {
 	const text = "one after another"
 	want := int64(crc32.ChecksumIEEE([]byte(text)))
 	var group sync.WaitGroup
-	results := make([]int64, 16)
+	results := make([]int64, 32)
 	for i := range results {
-		group.Go(func() { results[i] = impl.Crc32(text) })
+		crc := impl.Crc32
+		if i%2 == 0 {
+			crc = impl.Crc32ByTable
+		}
+		group.Go(func() { results[i] = crc(text) })
 	}
 	group.Wait()
 	for _, got := range results {

@@ -67,3 +67,51 @@ func checkFile(t *testing.T, path string, text []byte) {
 		}
 	}
 }
+
+// Crc32 computes its result without the variables that only sync.Once fills.
+func TestTableOfRemaindersStaysBesideCrc32(t *testing.T) {
+	f, err := parser.ParseFile(token.NewFileSet(), "../impl/l01_bytes.go", nil, parser.SkipObjectResolution)
+	if err != nil {
+		t.Fatal(err)
+	}
+	uses := map[string]map[string]bool{}
+	for _, d := range f.Decls {
+		if fn, ok := d.(*ast.FuncDecl); ok {
+			uses[fn.Name.Name] = namesIn(fn.Body)
+		}
+	}
+	for _, variable := range []string{"crcRemainders", "crcFilled"} {
+		check(t, "Crc32 reaches "+variable, reaches(uses, "Crc32", variable), false)
+		check(t, "Crc32ByTable reaches "+variable, reaches(uses, "Crc32ByTable", variable), true)
+	}
+}
+
+func namesIn(n ast.Node) map[string]bool {
+	names := map[string]bool{}
+	ast.Inspect(n, func(n ast.Node) bool {
+		if name, ok := n.(*ast.Ident); ok {
+			names[name.Name] = true
+		}
+		return true
+	})
+	return names
+}
+
+// reaches reports whether a function, or one that it uses, uses a name.
+func reaches(uses map[string]map[string]bool, function, name string) bool {
+	work, seen := []string{function}, map[string]bool{}
+	for len(work) > 0 {
+		last := work[len(work)-1]
+		work = work[:len(work)-1]
+		if last == name {
+			return true
+		}
+		for used := range uses[last] {
+			if !seen[used] {
+				seen[used] = true
+				work = append(work, used)
+			}
+		}
+	}
+	return false
+}
