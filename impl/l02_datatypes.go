@@ -482,6 +482,16 @@ func decimal(n int64) string {
 	return strconv.FormatInt(n, 10)
 }
 
+// readDecimal takes more than what decimal returns: a sign + and zeros before
+// the number.
+func readDecimal(word string) (int64, bool) {
+	n, err := strconv.ParseInt(word, 10, 64)
+	if err != nil {
+		return 0, false
+	}
+	return n, true
+}
+
 var errTypeForm = errors.New("not the form of a type")
 
 // typeReader reads binary and text forms of types from the start of rest. Its
@@ -674,8 +684,8 @@ func intOfWord(word string) Type {
 }
 
 func numberOfWord(word string) int64 {
-	n, err := strconv.ParseInt(word, 10, 64)
-	if err != nil {
+	n, ok := readDecimal(word)
+	if !ok {
 		panic(errTypeForm)
 	}
 	return n
