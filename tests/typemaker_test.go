@@ -208,6 +208,8 @@ type region struct {
 func regionsOf(v reflect.Value) []region {
 	var list []region
 	switch v.Kind() {
+	case reflect.Interface:
+		return regionsOf(v.Elem())
 	case reflect.Struct:
 		for i := range v.NumField() {
 			list = append(list, regionsOf(v.Field(i))...)
@@ -234,6 +236,21 @@ func checkApart(t *testing.T, what string, values ...any) {
 	for i := 1; i < len(list); i++ {
 		if list[i].start < list[i-1].end {
 			t.Errorf("%s: slices share memory", what)
+		}
+	}
+}
+
+// checkNew checks that no two slices within the results share memory, and none
+// with the arguments, which may share memory among themselves.
+func checkNew(t *testing.T, what string, arguments []any, results ...any) {
+	t.Helper()
+	checkApart(t, what, results...)
+	old := regionsOf(reflect.ValueOf(arguments))
+	for _, r := range regionsOf(reflect.ValueOf(results)) {
+		for _, a := range old {
+			if r.start < a.end && a.start < r.end {
+				t.Errorf("%s: a result shares memory with an argument", what)
+			}
 		}
 	}
 }
