@@ -199,6 +199,22 @@ func readLittleEndian(s string, at, size int64) (uint64, bool) {
 	return n, true
 }
 
+// fieldReader takes numbers and bytes from the start of a binary form. It lets
+// pass what is missing, as 0 or as fewer bytes, because that shows when what was
+// read is written again.
+type fieldReader struct{ rest string }
+
+func (r *fieldReader) number(size int64) int64 {
+	n, _ := GetUint(r.bytes(size), 0, size)
+	return n
+}
+
+func (r *fieldReader) bytes(n int64) string {
+	taken := r.rest[:min(n, int64(len(r.rest)))]
+	r.rest = r.rest[len(taken):]
+	return taken
+}
+
 func crcOf(s string, remainder func(b byte) uint32) int64 {
 	crc := uint32(math.MaxUint32)
 	for i := range len(s) {
