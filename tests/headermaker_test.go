@@ -255,3 +255,27 @@ func onDisk(t *testing.T, blocks, log int64, pages ...impl.Page) impl.Pager {
 	}
 	return withArea(p, 0, area)
 }
+
+// scattered returns a store with some pages, each of which is on the disk, in
+// the log, or in the current transaction, as a number from 0 to 26 tells.
+func scattered(t *testing.T, blocks, log int64, pages []impl.Page, places int) impl.Pager {
+	t.Helper()
+	var old []impl.Page
+	for _, page := range pages {
+		old = append(old, pagesAt("old", page.Block)...)
+	}
+	p := onDisk(t, blocks, log, old...)
+	p.Logged = pagesAt("older", blocks-1)
+	for i, page := range pages {
+		switch []int{places % 3, places / 3 % 3, places / 9}[i] {
+		case 0:
+			p.Disk = withBlocks(p.Disk, page.Block, []string{page.Data})
+		case 1:
+			p.Logged = mergedPages(p.Logged, []impl.Page{page})
+		default:
+			p.Logged = mergedPages(p.Logged, pagesAt("older", page.Block))
+			p.Dirty = mergedPages(p.Dirty, []impl.Page{page})
+		}
+	}
+	return p
+}

@@ -348,23 +348,11 @@ func TestP15DamagedBytesOfChains(t *testing.T) {
 
 // A chain is read in the transaction, in the log, and on the disk.
 func TestP15ChainsInThreePlaces(t *testing.T) {
-	pages := chainOf(formOf(longHeader(150)), []int64{20, 17, 39})
+	pages := chainOf(formOf(longHeader(150)), []int64{20, 17, 38})
 	for places := range 27 {
-		p := onDisk(t, 40, 12, pagesAt("old", 20, 17, 39)...)
-		p.Logged = pagesAt("older", 30)
-		for i, page := range pages {
-			switch []int{places % 3, places / 3 % 3, places / 9}[i] {
-			case 0:
-				p.Disk = withBlocks(p.Disk, page.Block, []string{page.Data})
-			case 1:
-				p.Logged = mergedPages(p.Logged, []impl.Page{page})
-			default:
-				p.Logged = mergedPages(p.Logged, pagesAt("older", page.Block))
-				p.Dirty = mergedPages(p.Dirty, []impl.Page{page})
-			}
-		}
+		p := scattered(t, 40, 12, pages, places)
 		_, blocks, code := checkObject(t, shown("places", places), p, 20)
-		check(t, shown("places", places), []any{code, blocks}, []any{int64(impl.OK), []int64{20, 17, 39}})
+		check(t, shown("places", places), []any{code, blocks}, []any{int64(impl.OK), []int64{20, 17, 38}})
 		_, code = checkRewrite(t, shown("places", places), p, 20, longHeader(70))
 		check(t, "WriteHeader", code, int64(impl.OK))
 	}
@@ -542,19 +530,14 @@ func (o *objects) act() {
 // checkAll checks that all headers are read back, and that their chains are
 // exactly the blocks that are allocated, each in one chain only.
 func (o *objects) checkAll() {
-	owners := map[int64]int64{}
+	var chains [][]int64
 	for at, want := range o.headers {
 		h, code := impl.ReadHeader(o.p, at)
 		check(o.t, "ReadHeader", []any{code, impl.SameHeader(h, want)}, []any{int64(impl.OK), true})
 		blocks, _ := impl.HeaderBlocks(o.p, at)
-		for _, k := range blocks {
-			check(o.t, "owner of a block", owners[k], int64(0))
-			owners[k] = at
-		}
+		chains = append(chains, blocks)
 	}
-	for k := range o.p.Super.Blocks {
-		check(o.t, shown("IsAllocated", k), impl.IsAllocated(o.p, k), owners[k] != 0)
-	}
+	checkOwners(o.t, "history", o.p, chains...)
 }
 
 func TestP15Histories(t *testing.T) {

@@ -239,6 +239,20 @@ func checkSpace(t *testing.T, what string, p impl.Pager) {
 	}
 }
 
+// checkOwners checks that the blocks in some lists are exactly those that are
+// allocated, each of them once.
+func checkOwners(t *testing.T, what string, p impl.Pager, lists ...[]int64) {
+	t.Helper()
+	owned := map[int64]bool{}
+	for _, k := range slices.Concat(lists...) {
+		check(t, shown(what, "has two owners", k), owned[k], false)
+		owned[k] = true
+	}
+	for k := range p.Super.Blocks {
+		check(t, shown(what, "IsAllocated", k), impl.IsAllocated(p, k), owned[k])
+	}
+}
+
 // withArea returns the pager with another allocation page: on the disk, among
 // the pages in the log, or in the current transaction, if that has room for it.
 func withArea(p impl.Pager, place int, area string) impl.Pager {
