@@ -30,3 +30,19 @@ func oddStrings() []string {
 	}
 	return list
 }
+
+// everyString calls a function with all strings of so many of the letters.
+func everyString(length int, letters string, try func(s string)) {
+	total := 1
+	for range length {
+		total *= len(letters)
+	}
+	for n := range total {
+		s := make([]byte, length)
+		for i := range s {
+			s[i] = letters[n%len(letters)]
+			n /= len(letters)
+		}
+		try(string(s))
+	}
+}

@@ -153,18 +153,7 @@ func TestP17FullHeaps(t *testing.T) {
 // everyHeap calls a function with all heaps of so many slots, each of which is
 // free or has one of two names; they need not be valid.
 func everyHeap(count int, try func(h impl.NameHeap)) {
-	total := 1
-	for range count {
-		total *= 3
-	}
-	for n := range total {
-		var h impl.NameHeap
-		for range count {
-			h.Names = append(h.Names, []string{"", "a", "b"}[n%3])
-			n /= 3
-		}
-		try(h)
-	}
+	everyString(count, ".ab", func(s string) { try(heapIn(s)) })
 }
 
 func TestP17SmallHeaps(t *testing.T) {
@@ -286,18 +275,7 @@ func TestP17DamagedForms(t *testing.T) {
 	}
 	// All short forms of a few bytes.
 	for length := range 7 {
-		total := 1
-		for range length {
-			total *= 5
-		}
-		for n := range total {
-			form := make([]byte, length)
-			for i := range form {
-				form[i] = "\x00\x01\x02a-"[n%5]
-				n /= 5
-			}
-			checkDecodeHeap(t, string(form))
-		}
+		everyString(length, "\x00\x01\x02a-", func(form string) { checkDecodeHeap(t, form) })
 	}
 }
 

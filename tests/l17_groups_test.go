@@ -40,18 +40,7 @@ func TestP18Paths(t *testing.T) {
 	}
 	for _, letters := range []string{"/a1-", "/aB"} {
 		for length := range 9 {
-			total := 1
-			for range length {
-				total *= len(letters)
-			}
-			for n := range total {
-				s := make([]byte, length)
-				for i := range s {
-					s[i] = letters[n%len(letters)]
-					n /= len(letters)
-				}
-				checkPath(t, string(s))
-			}
+			everyString(length, letters, func(s string) { checkPath(t, s) })
 		}
 	}
 	for length := 2; length <= 78; length++ {
