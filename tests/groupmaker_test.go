@@ -279,8 +279,8 @@ func reachedIn(p impl.Pager) ([]int64, int64) {
 	return list, impl.OK
 }
 
-// groupedIn tells what impl.CreateGroup should return.
-func groupedIn(p impl.Pager, parent int64, name string) (impl.Pager, int64, int64) {
+// objectCreatedIn creates an object with a name in a group by a function.
+func objectCreatedIn(p impl.Pager, parent int64, name string, create func(p impl.Pager) (impl.Pager, int64, int64)) (impl.Pager, int64, int64) {
 	if code := refusal(p, parent, name); code != impl.OK {
 		return impl.Pager{}, 0, code
 	}
@@ -291,7 +291,7 @@ func groupedIn(p impl.Pager, parent int64, name string) (impl.Pager, int64, int6
 	case len(all) > 23:
 		return impl.Pager{}, 0, impl.ErrFull
 	}
-	p, at, code := createdIn(p, folderHeader(1))
+	p, at, code := create(p)
 	if code != impl.OK {
 		return impl.Pager{}, 0, code
 	}
@@ -300,6 +300,11 @@ func groupedIn(p impl.Pager, parent int64, name string) (impl.Pager, int64, int6
 		return impl.Pager{}, 0, code
 	}
 	return p, at, impl.OK
+}
+
+// groupedIn tells what impl.CreateGroup should return.
+func groupedIn(p impl.Pager, parent int64, name string) (impl.Pager, int64, int64) {
+	return objectCreatedIn(p, parent, name, func(p impl.Pager) (impl.Pager, int64, int64) { return createdIn(p, folderHeader(1)) })
 }
 
 // namedIn tells what impl.AddLink should return.
@@ -374,7 +379,7 @@ func releasedFrom(p impl.Pager, at int64) (impl.Pager, int64) {
 		return p, code
 	}
 	if h.Kind == impl.ObDataset {
-		return impl.FreeDataset(p, at)
+		return setFreedIn(p, at)
 	}
 	f, code := folderIn(p, at)
 	if code == impl.ErrCorrupt {
@@ -596,8 +601,8 @@ func checkObjectsOf(t *testing.T, what string, p impl.Pager) ([]int64, int64) {
 }
 
 // checkClean checks that the objects that can be reached have as many Refs as
-// hard links lead to them, and that their chains are exactly the blocks that are
-// allocated.
+// hard links lead to them, and that their chains, and the indexes and runs of
+// datasets, are exactly the blocks that are allocated.
 func checkClean(t *testing.T, what string, p impl.Pager) {
 	t.Helper()
 	all, code := checkObjectsOf(t, what, p)
@@ -613,7 +618,7 @@ func checkClean(t *testing.T, what string, p impl.Pager) {
 			}
 		}
 		blocks, _ := impl.HeaderBlocks(p, at)
-		chains = append(chains, blocks)
+		chains = append(chains, blocks, blocksOfSet(p, at))
 	}
 	for _, at := range all {
 		h, code := impl.ReadHeader(p, at)

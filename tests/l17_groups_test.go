@@ -894,11 +894,8 @@ func TestP19LinksThatAreWrong(t *testing.T) {
 	for what, h := range badFolders() {
 		for _, refs := range []int64{0, 1, 2} {
 			h.Refs = refs
-			if h.Kind == impl.ObDataset && refs == 1 {
-				continue
-			}
 			want := int64(impl.OK)
-			if refs == 0 || refs == 1 && h.Kind == impl.ObGroup {
+			if refs == 0 || refs == 1 && h.Kind != impl.ObVirtual {
 				want = impl.ErrCorrupt
 			}
 			p := storeWith(t, 40, thing{40, folderHeader(1, hard("a", 50), hard("b", 60))}, thing{50, folderHeader(1, hard("c", 60))}, thing{60, h})
@@ -909,26 +906,59 @@ func TestP19LinksThatAreWrong(t *testing.T) {
 	}
 }
 
-// A dataset is released by FreeDataset, after its header has been written.
-func TestP19DatasetsAreFreedAsSuch(t *testing.T) {
-	p := storeIn(t, "40 group 1 a=60 b=60 c=61; 60 dataset 2; 61 dataset 1")
-	one, code := checkRemoveLink(t, "one of two links", p, 40, "a")
-	check(t, "one of two links", []any{code, storeText(one)}, []any{int64(impl.OK), "40 group 1 b=60 c=61; 60 dataset 1; 61 dataset 1"})
-	for name, at := range map[string]int64{"b": 60, "c": 61} {
-		want, code := impl.RemoveLink(one, 40, name)
-		f, _ := folderIn(one, 40)
-		f.links = slices.DeleteFunc(f.links, func(x impl.Link) bool { return x.Name == name })
-		f.heap, _ = droppedIn(f.heap, slotIn(f.heap, name))
-		before, _ := f.saved(one, 40)
-		before, _ = rewrittenIn(before, at, headerOf(impl.ObDataset, 0))
-		freed, freedCode := impl.FreeDataset(before, at)
-		check(t, shown("RemoveLink", name), []any{code, samePagers(want, freed)}, []any{freedCode, true})
+// Datasets are released with their indexes and the runs of their chunks when their
+// last link is removed, and not before.
+func TestP19DatasetsAreFreed(t *testing.T) {
+	p, root := rooted(t, 120, 50)
+	free := impl.FreeCount(p)
+	p, one, _ := checkCreateGroup(t, "datasets", p, root, "one")
+	p, two, _ := checkCreateGroup(t, "datasets", p, one, "two")
+	p, a, _ := checkCreateDataset(t, "datasets", p, two, "a", setOf(t, "u1 (16) 1 none 2d"))
+	p, _ = checkWriteData(t, "datasets", p, a, selectAll, intType(1, false, false), "abcdefghijklmnop")
+	p, b, _ := checkCreateDataset(t, "datasets", p, one, "b", setOf(t, "i8 (8,8) 8,8 sum "+strings.Repeat("00", 8)))
+	p, _ = checkWriteChunk(t, "datasets", p, b, 0, allBytes(512))
+	p, _ = checkAddLink(t, "datasets", p, root, "a", a)
+	p, _ = checkAddLink(t, "datasets", p, two, "b", b)
+	checkClean(t, "datasets", p)
+	check(t, "the datasets", storeText(p), fmt.Sprintf("%d group 1 a=%d one=%d; %d dataset 2; %d group 1 b=%d two=%d; %d dataset 2; %d group 1 a=%d b=%d", root, a, one, a, one, b, two, b, two, a, b))
+	p, _ = impl.Commit(p)
+	for _, c := range []struct {
+		group int64
+		name  string
+		want  int64 // the blocks that are in use behind it, but for the root group
+	}{{two, "b", 2 + 21 + 11}, {one, "two", 1 + 21 + 11}, {one, "b", 1 + 21}, {root, "one", 21}, {root, "a", 0}} {
+		var code int64
+		p, code = checkRemoveLink(t, "datasets", p, c.group, c.name)
+		check(t, shown("RemoveLink", c.name), []int64{code, free - impl.FreeCount(p)}, []int64{impl.OK, c.want})
+		checkClean(t, "datasets", p)
+		p, _ = impl.Commit(p)
 	}
-	// A dataset on the way.
-	p = storeIn(t, "40 group 1 a=41; 41 group 1 b=60 c=61; 60 virtual 1; 61 dataset 1")
-	want, wantCode := unlinkedIn(p, 40, "a")
-	got, code := impl.RemoveLink(p, 40, "a")
-	check(t, "a dataset on the way", []any{code, samePagers(got, want)}, []any{wantCode, true})
+	check(t, "nothing is left", storeText(p), fmt.Sprint(root, " group 1"))
+}
+
+// Groups with datasets, which are deleted in one step, and datasets that cannot be released.
+func TestP19DatasetsOnTheWay(t *testing.T) {
+	p, at, d := storeOfSet(t, byteSet, map[int64]string{0: "abcd", 1: "e-g-", 16: "ijkl"})
+	p, group, _ := checkCreateGroup(t, "way", p, 67, "group")
+	p, _ = checkAddLink(t, "way", p, group, "set", at)
+	p, other, _ := checkCreateDataset(t, "way", p, group, "other", setOf(t, byteSet))
+	p, _ = checkWriteChunk(t, "way", p, other, 0, "abcd")
+	p, _ = checkRemoveLink(t, "way", p, 67, "set")
+	checkClean(t, "way", p)
+	check(t, "the datasets", storeText(p), fmt.Sprintf("67 group 1 group=%d; %d group 1 other=%d set=%d; %d dataset 1; %d dataset 1", group, group, other, at, other, at))
+	after, code := checkRemoveLink(t, "way", p, 67, "group")
+	check(t, "RemoveLink", []any{code, storeText(after), impl.FreeCount(after)}, []any{int64(impl.OK), "67 group 1", int64(188)})
+	for what, q := range map[string]impl.Pager{
+		"a run that is not allocated": withEntry(t, p, d, chunkAt(0, 200, 4, 0), ""), "a run that is released twice": withEntry(t, p, d, chunkAt(0, 71, 4, 0), ""), "no index": withPages(t, p, pageAt(d.Index, blockOf("x"))), "no dataset": first2(impl.WriteHeader(p, at, headerOf(impl.ObDataset, 1))),
+	} {
+		_, code := checkRemoveLink(t, what, q, 67, "group")
+		_, otherCode := checkRemoveLink(t, what, q, group, "other")
+		check(t, what, []int64{code, otherCode}, []int64{impl.ErrCorrupt, impl.OK})
+	}
+}
+
+func first2(p impl.Pager, code int64) impl.Pager {
+	return p
 }
 
 // Objects that can be reached, in their order.
@@ -1071,6 +1101,10 @@ func newTree(t *testing.T, m typeMaker, blocks, log int64, codes map[string]int)
 	check(t, "Commit", code, int64(impl.OK))
 	root, _ := impl.RootOf(p)
 	return &tree{t, m, p, root, map[int64]int64{root: impl.ObGroup}, map[int64]map[string]impl.Link{root: {}}, codes}
+}
+
+func (x *tree) place() *impl.Pager {
+	return &x.p
 }
 
 // copied returns a tree that changes of this one do not affect.
@@ -1250,30 +1284,7 @@ func TestP19Histories(t *testing.T) {
 	for i := range 32 {
 		blocks := []int64{60, 100, 120, 30}[i%4]
 		x := newTree(t, m, blocks, []int64{blocks / 2, blocks / 3, 12, 9}[m.IntN(4)], codes)
-		kept := x.copied()
-		for range 150 {
-			code := int64(impl.OK)
-			switch kind := m.IntN(40); {
-			case kind == 0:
-				p, _ := impl.Discard(x.p)
-				x = kept.copied()
-				x.p = p
-			case kind == 1:
-				p, code := impl.Sync(x.p)
-				check(t, "Sync", code, int64(impl.OK))
-				d, _ := impl.CutPower(p.Disk, nil, -1, 0)
-				x = kept.copied()
-				x.p, code = impl.OpenPager(d)
-				check(t, "OpenPager", code, int64(impl.OK))
-			case kind < 7:
-				x.p, code = impl.Commit(x.p)
-				kept = x.copied()
-			default:
-				x.act()
-			}
-			check(t, "code", code, int64(impl.OK))
-			x.checkAll()
-		}
+		runHistory(t, m, x, 150, 40, 7)
 	}
 	for _, name := range []string{"group 0", "group 4", "group 5", "object 0", "object 4", "link 0", "link 4", "link 5", "soft 0", "soft 4", "soft 5", "remove 0", "remove 3", "path 0", "path 3", "path 7", "path 11"} {
 		if codes["["+name+"]"] < 10 {

@@ -379,3 +379,41 @@ func everyCut(t *testing.T, d impl.Disk, lengths []int64, try func(what string, 
 		}
 	}
 }
+
+// chronicle is a store with what is known of it.
+type chronicle[X any] interface {
+	place() *impl.Pager // where the store is kept
+	copied() X
+	act() // makes one drawn change
+	checkAll()
+}
+
+// runHistory makes so many steps: drawn changes, commits, transactions that are
+// abandoned, and power cuts behind a synchronization. Of so many kinds of steps,
+// the first two are the latter ones, and those before commits are commits.
+func runHistory[X chronicle[X]](t *testing.T, m typeMaker, x X, steps, kinds, commits int) {
+	t.Helper()
+	kept := x.copied()
+	for range steps {
+		p, code := *x.place(), int64(impl.OK)
+		switch kind := m.IntN(kinds); {
+		case kind == 0:
+			p, code = impl.Discard(p)
+			x = kept.copied()
+			*x.place() = p
+		case kind == 1:
+			p, code = impl.Sync(p)
+			check(t, "Sync", code, int64(impl.OK))
+			d, _ := impl.CutPower(p.Disk, nil, -1, 0)
+			x = kept.copied()
+			*x.place(), code = impl.OpenPager(d)
+		case kind < commits:
+			*x.place(), code = impl.Commit(p)
+			kept = x.copied()
+		default:
+			x.act()
+		}
+		check(t, "code", code, int64(impl.OK))
+		x.checkAll()
+	}
+}
